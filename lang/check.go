@@ -50,10 +50,10 @@ func (c *checker) add(name word, is kind, isVar bool) {
 }
 
 // block looks at statements; what they make is not known behind them.
-func (c *checker) block(list []node) {
+func (c *checker) block(list []statement) {
 	outside := len(c.names)
-	for _, n := range list {
-		n.look(c)
+	for _, s := range list {
+		s.look(c)
 	}
 	c.names = c.names[:outside]
 }

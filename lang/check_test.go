@@ -9,19 +9,26 @@ import (
 	"helm/lang"
 )
 
-// wantCost holds Check to a cost.
+// wantCost holds Check to a cost, and Compile to code that fits it.
 func wantCost(t *testing.T, src string, want int) {
 	t.Helper()
 	if cost, errno, at := lang.Check(src); cost != want || errno != api.OK || at != 0 {
 		t.Errorf("Check(%.80q) = %d, %d, %d, want the cost %d", src, cost, errno, at, want)
+		return
 	}
+	wantCode(t, src, want)
 }
 
-// wantFault holds Check to an error and its place.
+// wantFault holds Check and Compile to an error and its place.
 func wantFault(t *testing.T, src string, want api.Errno, place int) {
 	t.Helper()
 	if cost, errno, at := lang.Check(src); cost != 0 || errno != want || at != place {
 		t.Errorf("Check(%.80q) = %d, %d, %d, want 0, %d, %d", src, cost, errno, at, want, place)
+	}
+	for _, better := range bothWays {
+		if code, errno, at := lang.Compile(src, better); code != "" || errno != want || at != place {
+			t.Errorf("Compile(%.80q, %t) = %x, %d, %d, want nothing, %d, %d", src, better, code, errno, at, want, place)
+		}
 	}
 }
 

@@ -5,21 +5,35 @@ import "helm/api"
 
 // Check tells a program's cost (P3).
 func Check(src string) (int, api.Errno, int) {
+	program, wrong := checked(src)
+	return totalOf(program), wrong.errno, wrong.at
+}
+
+// Compile turns a program into code (P4).
+func Compile(src string, better bool) (string, api.Errno, int) {
+	program, wrong := checked(src)
+	if wrong.errno != api.OK {
+		return "", wrong.errno, wrong.at
+	}
+	if better {
+		program = folded(program)
+	}
+	return codeOf(program), api.OK, 0
+}
+
+// checked reads a program, or tells what is wrong with the text.
+func checked(src string) ([]statement, fault) {
 	program, wrong := parse(src)
 	if wrong.errno != api.OK {
-		return 0, wrong.errno, wrong.at
+		return nil, wrong
 	}
 	var c checker
 	c.block(program)
 	if c.fault.errno != api.OK {
-		return 0, c.fault.errno, c.fault.at
+		return nil, c.fault
 	}
-	cost := totalOf(program)
-	if cost > api.MaxCost {
-		return 0, api.ErrCost, 0
+	if totalOf(program) > api.MaxCost {
+		return nil, fault{errno: api.ErrCost}
 	}
-	return cost, api.OK, 0
+	return program, fault{}
 }
-
-// Compile turns a program into code (P4).
-func Compile(src string, better bool) (string, api.Errno, int) { return "", api.OK, 0 }

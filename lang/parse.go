@@ -16,7 +16,7 @@ type parser struct {
 }
 
 // parse reads a text by tokens and grammar.
-func parse(src string) ([]node, fault) {
+func parse(src string) ([]statement, fault) {
 	if len(src) > api.MaxText {
 		return nil, fault{errno: api.ErrText}
 	}
@@ -80,16 +80,16 @@ func (p *parser) name() word {
 	return word{text: read.text, at: read.at}
 }
 
-func (p *parser) statements() []node {
-	var list []node
-	for n := p.statement(); n != nil; n = p.statement() {
-		list = append(list, n)
+func (p *parser) statements() []statement {
+	var list []statement
+	for s := p.statement(); s != nil; s = p.statement() {
+		list = append(list, s)
 	}
 	return list
 }
 
 // statement reads a statement, or nothing (nil) where none begins.
-func (p *parser) statement() node {
+func (p *parser) statement() statement {
 	switch p.tok.kind {
 	case tokenName:
 		return p.setting()
@@ -111,20 +111,20 @@ func (p *parser) statement() node {
 	return nil
 }
 
-func (p *parser) making() node {
+func (p *parser) making() statement {
 	at := p.next().at
 	name := p.name()
 	from := p.given()
 	return &making{part: newPart(at, from.price()), name: name, from: from}
 }
 
-func (p *parser) setting() node {
+func (p *parser) setting() statement {
 	name := p.name()
 	from := p.given()
 	return &setting{part: newPart(name.at, from.price()), name: name, from: from}
 }
 
-func (p *parser) storing() node {
+func (p *parser) storing() statement {
 	at := p.tok.at
 	index := p.register()
 	from := p.given()
@@ -139,7 +139,7 @@ func (p *parser) given() expr {
 	return from
 }
 
-func (p *parser) pushing() node {
+func (p *parser) pushing() statement {
 	at := p.next().at
 	p.open("(")
 	road := p.expr()
@@ -150,17 +150,17 @@ func (p *parser) pushing() node {
 	return &pushing{part: newPart(at, road.price(), packet.price()), road: road, packet: packet}
 }
 
-func (p *parser) returning() node {
+func (p *parser) returning() statement {
 	at := p.next().at
 	p.expect(";")
 	return &returning{part: newPart(at)}
 }
 
-func (p *parser) choice() node {
+func (p *parser) choice() statement {
 	at := p.next().at
 	condition := p.expr()
 	yes := p.block()
-	var no []node
+	var no []statement
 	if p.is("else") {
 		p.next()
 		no = p.block()
@@ -169,7 +169,7 @@ func (p *parser) choice() node {
 	return &choice{part: is, condition: condition, yes: yes, no: no}
 }
 
-func (p *parser) loop() node {
+func (p *parser) loop() statement {
 	at := p.next().at
 	name := p.name()
 	p.expect("in")
@@ -182,7 +182,7 @@ func (p *parser) loop() node {
 	return &loop{part: is, name: name, over: over, body: body}
 }
 
-func (p *parser) block() []node {
+func (p *parser) block() []statement {
 	p.open("{")
 	list := p.statements()
 	p.close("}")

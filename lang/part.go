@@ -29,6 +29,10 @@ func (p *part) place() int { return p.at }
 
 func (p *part) price() int { return p.cost }
 
+func (p *part) idle() bool { return false }
+
+func (p *part) ends() bool { return false }
+
 // A value is what every expr has: a part, and a type.
 type value struct {
 	part
@@ -46,11 +50,23 @@ type node interface {
 	look(c *checker)
 }
 
+// A statement is laid down as code. Where its sort says nothing else, idle and
+// ends are promoted from its part.
+type statement interface {
+	node
+	lay(c *coder)
+	fold()
+	idle() bool // whether it does nothing
+	ends() bool // whether nothing behind it in its block is ever done
+}
+
 // An expr has a type too; sort and widen are promoted from its value.
 type expr interface {
 	node
 	sort() kind
 	widen(at int)
+	give(c *coder, into int) int
+	fold() expr
 }
 
 // A word is a name as it stands in the text. An expr's place may be that of a
@@ -100,13 +116,14 @@ type (
 	choice struct { // if
 		part
 		condition expr
-		yes, no   []node
+		yes, no   []statement
+		isSure    bool // that yes is done, whatever the condition
 	}
 	loop struct { // each
 		part
 		name word
 		over *set
-		body []node
+		body []statement
 	}
 )
 
@@ -188,10 +205,10 @@ func total(costs ...int) int {
 	return sum
 }
 
-func totalOf(list []node) int {
+func totalOf(list []statement) int {
 	sum := 0
-	for _, n := range list {
-		sum = total(sum, n.price())
+	for _, s := range list {
+		sum = total(sum, s.price())
 	}
 	return sum
 }

@@ -8,7 +8,6 @@ import (
 	"testing"
 
 	"helm/api"
-	"helm/lang"
 )
 
 // The types, as the writer of programs knows them.
@@ -52,7 +51,9 @@ type writer struct {
 	names  []madeName
 	depth  int
 	parts  int
+	inSets int // how many sets are being gone through, one in another
 	spoil  int // of so many things that could be wrong one is; 0: none
+	flat   int // at most so many sets are gone through, one in another; 0: any number
 	errno  api.Errno
 	at     int
 	cost   int
@@ -61,6 +62,8 @@ type writer struct {
 func (w *writer) one(n int) bool { return w.random.IntN(n) == 0 }
 
 func (w *writer) wrong() bool { return w.spoil > 0 && w.one(w.spoil) }
+
+func (w *writer) isDeep() bool { return w.flat > 0 && w.inSets >= w.flat }
 
 func (w *writer) pick(words string) string {
 	list := strings.Fields(words)
@@ -224,7 +227,7 @@ func (w *writer) simple(is int) written {
 func (w *writer) behind(is int) written {
 	way := w.random.IntN(4)
 	switch {
-	case way == 0:
+	case way == 0, way == 3 && w.isDeep():
 		return w.simple(is)
 	case way == 1 && is <= ofTruth:
 		return w.property(is)
@@ -236,6 +239,8 @@ func (w *writer) behind(is int) written {
 		return w.onRoad()
 	case way == 3 && is == ofTruth:
 		return w.isNone()
+	case w.isDeep():
+		return w.simple(is)
 	}
 	return w.measuring(is)
 }
@@ -313,7 +318,7 @@ func (w *writer) set(of int) (written, int) {
 		name, n = w.pick("FRESH AGAIN"), 16
 	}
 	s := written{w.put(name), 1}
-	for w.one(3) && w.depth < 18 {
+	for w.one(3) && w.depth < 18 && !w.isDeep() {
 		w.put(".", "filter")
 		s.cost += n * (1 + w.bracket(of, ofTruth))
 	}
@@ -325,7 +330,9 @@ func (w *writer) bracket(one, want int) int {
 	outside := len(w.names)
 	w.names = append(w.names, madeName{text: w.newName(), is: one})
 	w.put(":")
+	w.inSets++
 	e := w.want(want, asOr)
+	w.inSets--
 	w.put(")")
 	w.names = w.names[:outside]
 	return e.cost
@@ -344,34 +351,51 @@ func (w *writer) block() int {
 }
 
 func (w *writer) statement() int {
-	way := w.random.IntN(7)
-	if w.depth >= 17 || w.parts > 150 {
-		way = w.random.IntN(4)
+	way := w.random.IntN(8)
+	if w.depth >= 17 || w.parts > 150 || w.isDeep() {
+		way = w.random.IntN(5)
 	}
 	switch way {
 	case 0:
-		w.put("return", ";")
-		return 1
+		return w.returning()
 	case 1:
 		return w.making()
 	case 2:
 		return w.setting()
 	case 3:
-		w.put(w.pick("R0 R1 R2 R3 R4 R5 R6 R7"), "=")
-		e := w.want(ofNumber, asOr)
-		w.put(";")
-		return 1 + e.cost
-	case 4:
-		w.put("push", "(")
-		road := w.want(ofRoad, asOr)
-		w.put(",")
-		packet := w.want(ofPacket, asOr)
-		w.put(")", ";")
-		return 1 + road.cost + packet.cost
-	case 5:
+		return w.storing()
+	case 4, 5:
+		return w.pushing()
+	case 6:
 		return w.choice()
 	}
 	return w.loop()
+}
+
+// returning writes a return here and there; with many of them programs do
+// nothing.
+func (w *writer) returning() int {
+	if !w.one(4) {
+		return w.storing()
+	}
+	w.put("return", ";")
+	return 1
+}
+
+func (w *writer) storing() int {
+	w.put(w.pick("R0 R1 R2 R3 R4 R5 R6 R7"), "=")
+	e := w.want(ofNumber, asOr)
+	w.put(";")
+	return 1 + e.cost
+}
+
+func (w *writer) pushing() int {
+	w.put("push", "(")
+	road := w.want(ofRoad, asOr)
+	w.put(",")
+	packet := w.want(ofPacket, asOr)
+	w.put(")", ";")
+	return 1 + road.cost + packet.cost
 }
 
 func (w *writer) making() int {
@@ -391,8 +415,7 @@ func (w *writer) setting() int {
 		target = w.names[w.random.IntN(len(w.names))]
 	}
 	if !target.isVar && !isUnknown && !w.wrong() {
-		w.put("return", ";")
-		return 1
+		return w.storing()
 	}
 	at := w.put(target.text)
 	if !target.isVar {
@@ -422,7 +445,9 @@ func (w *writer) loop() int {
 	s, n := w.set(of)
 	outside := len(w.names)
 	w.names = append(w.names, madeName{text: name, is: of})
+	w.inSets++
 	cost := 1 + s.cost + n*(1+w.block())
+	w.inSets--
 	w.names = w.names[:outside]
 	return cost
 }
@@ -447,11 +472,13 @@ func TestWrittenPrograms(t *testing.T) {
 		case w.errno == api.OK && w.cost > 1000000:
 			w.errno = api.ErrCost
 		}
-		if w.errno != api.OK {
-			w.cost = 0
+		if w.errno == api.OK {
+			wantCost(t, src, w.cost)
+		} else {
+			wantFault(t, src, w.errno, w.at)
 		}
-		if cost, errno, at := lang.Check(src); cost != w.cost || errno != w.errno || at != w.at {
-			t.Fatalf("Check(%q) = %d, %d, %d, want %d, %d, %d", src, cost, errno, at, w.cost, w.errno, w.at)
+		if t.Failed() {
+			t.Fatalf("%q", src)
 		}
 		seen[w.errno]++
 	}
