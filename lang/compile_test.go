@@ -150,7 +150,11 @@ func TestBetterIsShorter(t *testing.T) {
 		"R0 = ROADS.filter(r: 1 < 2).count;":                     "R0 = ROADS.count;",
 		"push(ROADS.filter(r: r.id == 2 + 1).first, FRESH.max(p: 2 * 2));":                       "push(ROADS.filter(r: r.id == 3).first, FRESH.max(p: 4));",
 		"var x = isnone(ROADS.min(r: 1 + 1)); x = FRESH.first.on(ROADS.max(r: r.id * (3 - 1)));": "var x = isnone(ROADS.min(r: 2)); x = FRESH.first.on(ROADS.max(r: r.id * 2));",
-		"R0 = ROADS.max(r: -(2 + 1)).rtt;":                                                       "R0 = ROADS.max(r: -3).rtt;",
+		"if true { } else { R0 = 1; }":                                    "",
+		"if false { R0 = 1; }":                                            "",
+		"each p in FRESH.filter(p: 1 < 2) { R0 = 1 + 2; }":                "each p in FRESH { R0 = 3; }",
+		"R0 = AGAIN.filter(p: true).filter(q: q.size > 1).sum(p: p.seq);": "R0 = AGAIN.filter(q: q.size > 1).sum(p: p.seq);",
+		"R0 = ROADS.max(r: -(2 + 1)).rtt;":                                "R0 = ROADS.max(r: -3).rtt;",
 	} {
 		better, short, plain := compile(t, src, true), compile(t, same, true), compile(t, src, false)
 		if better != short {
