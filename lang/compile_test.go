@@ -201,16 +201,15 @@ func someRegisters(random *rand.Rand) [8]int {
 	return regs
 }
 
-// wantMeaning holds code to what its program does.
+// wantMeaning holds runs of code to what its program does.
 func wantMeaning(t *testing.T, src string, c compiled, v api.View, regs [8]int) {
 	t.Helper()
+	loaded, _ := vm.Load(c.code)
 	want := does(src, v, regs)
-	got, steps := run(c.code, v, regs)
-	if !reflect.DeepEqual(got, want) {
-		t.Fatalf("%q\nwith %+v %v\ndoes %+v\nwant %+v", src, v, regs, got, want)
-	}
-	if steps > c.need {
-		t.Fatalf("%q took %d steps, and said %d", src, steps, c.need)
+	for _, fuel := range []int{c.need, math.MaxInt} {
+		if got := loaded.Run(v, regs, fuel); !reflect.DeepEqual(got, want) {
+			t.Fatalf("%q\nwith %+v %v\ndoes %+v\nwant %+v", src, v, regs, got, want)
+		}
 	}
 }
 

@@ -1,4 +1,4 @@
-package lang_test
+package vm_test
 
 import (
 	"math/bits"
@@ -9,14 +9,14 @@ import (
 
 // An instruction, with what stands in its blocks.
 type instruction struct {
-	op          op.Op
-	numbers     []int
-	yes, no     []instruction
-	isSplit     bool
-	begins, end int // its bytes
+	op      op.Op
+	numbers []int
+	yes, no []instruction
+	isSplit bool
 }
 
-// A tester runs code that vm took, in the plainest way, and counts its steps.
+// A tester runs code that Load took, in the plainest way, with all the fuel that
+// there is, and counts its steps.
 type tester struct {
 	view    api.View
 	slots   [op.MaxSlots]int
@@ -35,7 +35,7 @@ const (
 func untangle(code string, at int) ([]instruction, op.Op, int) {
 	var list []instruction
 	for {
-		one := instruction{op: op.Op(code[at]), begins: at}
+		one := instruction{op: op.Op(code[at])}
 		shape, _ := op.Shape(one.op)
 		at++
 		for range shape {
@@ -54,13 +54,12 @@ func untangle(code string, at int) ([]instruction, op.Op, int) {
 				one.no, _, at = untangle(code, at)
 			}
 		}
-		one.end = at
 		list = append(list, one)
 	}
 }
 
-// run runs code, and tells how many steps it took.
-func run(code string, v api.View, regs [8]int) (api.Result, int) {
+// plainRun runs code up to its end, and tells how many steps it took.
+func plainRun(code string, v api.View, regs [8]int) (api.Result, int) {
 	list, _, _ := untangle(code, 0)
 	m := &tester{view: v}
 	copy(m.slots[:], regs[:])
