@@ -350,7 +350,7 @@ func TestBadViews(t *testing.T) {
 			for _, fuel := range []int{c.Need(), c.Need() + 1, math.MaxInt} {
 				wantWrong(t, c, v, regs, fuel, api.BadView)
 			}
-			for _, fuel := range []int{math.MinInt, -1, 0} {
+			for _, fuel := range []int{math.MinInt, -1, 0, c.Need() - 1} {
 				wantWrong(t, c, v, regs, fuel, api.Starved, api.BadView)
 			}
 		}
